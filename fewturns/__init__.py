@@ -1,0 +1,1 @@
+"""Fewturns: ways on a grid with few turns."""

@@ -1,0 +1,1 @@
+"""Grids, their places and the ways on them."""
