@@ -11,6 +11,20 @@ PACKAGE = Path(__file__).resolve().parent.parent / "fewturns"
 FUNCTIONS = {
     "fewturns/grids/texts.py": {"read_grid": ["text"], "grid_shown": ["grid"]},
     "fewturns/grids/ways.py": {"is_way": ["grid", "way"], "turns_of": ["grid", "way"]},
+    "fewturns/grids/runs.py": {"runs_of": ["grid", "way"], "way_by": ["grid", "place", "text"]},
+    "fewturns/least/ways.py": {
+        "least_turns": ["grid", "one", "other"],
+        "first_way": ["grid", "one", "other"],
+    },
+    "fewturns/least/tables.py": {
+        "turns_from": ["grid", "place"],
+        "table_shown": ["grid", "place", "table"],
+        "widest": ["grid"],
+    },
+    "fewturns/counts/ways.py": {
+        "count_ways": ["grid", "one", "other", "steps"],
+        "count_stairs": ["grid", "one", "other"],
+    },
 }
 
 CLASSES = {

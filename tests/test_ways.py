@@ -5,35 +5,7 @@ from itertools import product
 
 from fewturns.errors import NoWay, TurnError
 from fewturns.grids.ways import is_way, turns_of
-
-STEPS = {"e": (0, 1), "n": (-1, 0), "s": (1, 0), "w": (0, -1)}
-
-ROOM = ("...", "...", "...")
-HALL = ("..#.", "#...", "..#.")
-FAR = 10 ** 6
-
-
-def followed(place, headings):
-    """The places one comes to by the headings, walls or not."""
-    way = [place]
-    for heading in headings:
-        down, right = STEPS[heading]
-        way.append((way[-1][0] + down, way[-1][1] + right))
-    return tuple(way)
-
-
-def turns_in(headings):
-    return sum(headings[at] != headings[at - 1] for at in range(1, len(headings)))
-
-
-def free_places(grid):
-    """Found by the rows' signs, not by asking the program."""
-    return {
-        (row, column)
-        for row, line in enumerate(grid)
-        for column, sign in enumerate(line)
-        if sign == "."
-    }
+from tests.grounds import FAR, HALL, ROOM, STEPS, followed, free_places, snake, turns_in
 
 
 def way_by_the_words(grid, way):
@@ -160,15 +132,6 @@ class Looker(unittest.TestCase):
         self.no(grid, way[:-1] + ((0, 0),))
         self.no(grid, ((11, 11),) + way[1:])
         self.no(grid, way[:100] + way[101:])
-
-
-def snake(grid):
-    """All places of an open grid, row by row, each other row backwards."""
-    way = []
-    for row in range(len(grid)):
-        columns = range(len(grid[0]))
-        way += [(row, column) for column in (columns if row % 2 == 0 else reversed(columns))]
-    return tuple(way)
 
 
 class Turns(unittest.TestCase):

@@ -18,10 +18,15 @@ def is_way(grid, way):
     return None not in headings_of(way)
 
 
-def turns_of(grid, way):
-    """The pair (turns, length) of the way, or NoWay where it is none."""
+def ask_way(grid, way):
+    """Nothing, or NoWay where it is no way."""
     if not is_way(grid, way):
         raise NoWay("this is no way on the grid")
+
+
+def turns_of(grid, way):
+    """The pair (turns, length) of the way, or NoWay where it is none."""
+    ask_way(grid, way)
     headings = headings_of(way)
     turns = 0
     for ahead, behind in zip(headings, headings[1:]):

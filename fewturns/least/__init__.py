@@ -1,0 +1,1 @@
+"""The least turns between places, and what hangs on them."""
