@@ -45,15 +45,51 @@ ROUND = (
     ".##.",
     "....",
 )
+# From (0, 0) to (5, 3) the way grows shorter with two turns more, and again with a third one.
+STEPPED = (
+    ".......",
+    "....#..",
+    "#.#....",
+    "#..#...",
+    ".#.....",
+    "..#...#",
+)
+
+
+def drawn(seed, many, below):
+    """So many numbers below a bound, always the same for the same seed."""
+    numbers, at = [], seed * 7919 + 17
+    for _ in range(many):
+        at = (at * 1103515245 + 12345) % 2 ** 31
+        numbers.append((at >> 12) % below)
+    return numbers
 
 
 def made(rows, columns, seed, walls):
     """A grid with about so many walls of a hundred places, always the same for the same seed."""
-    signs, at = "", seed * 7919 + 17
-    for _ in range(rows * columns):
-        at = (at * 1103515245 + 12345) % 2 ** 31
-        signs += "#" if (at >> 12) % 100 < walls else "."
+    signs = "".join("#" if number < walls else "." for number in drawn(seed, rows * columns, 100))
     return tuple(signs[row * columns:(row + 1) * columns] for row in range(rows))
+
+
+def walled(rows, columns, walls):
+    """The grid of so many rows and columns with these walls and no others."""
+    return tuple(
+        "".join("#" if (row, column) in walls else "." for column in range(columns)) for row in range(rows)
+    )
+
+
+def walls_of(grid):
+    return {(row, column) for row, line in enumerate(grid) for column, sign in enumerate(line) if sign == "#"}
+
+
+def opened(grid, place):
+    """The grid without the wall of the place."""
+    return walled(len(grid), len(grid[0]), walls_of(grid) - {place})
+
+
+def shut(grid, place):
+    """The grid with a wall more."""
+    return walled(len(grid), len(grid[0]), walls_of(grid) | {place})
 
 
 def all_grids(rows, columns):
@@ -147,6 +183,65 @@ def best_by_queue(grid, place):
                 more = (turns + turned, length + 1, headings + heading, beside(last, heading))
                 heappush(queue, more)
     return best
+
+
+def reached(grid, place):
+    """The places that can be come to, step by step."""
+    free, met = free_places(grid), [place]
+    for last in met:
+        met += [beside(last, heading) for heading in STEPS
+                if beside(last, heading) in free and beside(last, heading) not in met]
+    return set(met)
+
+
+def falling(pairs):
+    """Of pairs (turns, length) the tuple of [13]."""
+    told = []
+    for turns, length in sorted(pairs):
+        if not told or length < told[-1][1]:
+            told.append((turns, length))
+    return tuple(told)
+
+
+def pairs_of_all_ways(grid, place):
+    """By last place the tuple of [13], of all ways of fewer steps than free places (see above)."""
+    found = {}
+    for headings, last in all_ways(grid, place, len(free_places(grid)) - 1):
+        found.setdefault(last, set()).add((turns_in(headings), len(headings)))
+    return {last: falling(pairs) for last, pairs in found.items()}
+
+
+def pairs_by_steps(grid, place):
+    """The same, of grids of any size: the least turns of the ways of just so many steps, one step more each time."""
+    free, found, least = free_places(grid), {place: {(0, 0)}}, {(place, ""): 0}
+    for length in range(1, len(free)):
+        longer = {}
+        for (last, ahead), turns in least.items():
+            for heading, (down, right) in STEPS.items():
+                behind = (last[0] + down, last[1] + right)
+                if behind in free:
+                    more = turns + (ahead not in ("", heading))
+                    longer[(behind, heading)] = min(more, longer.get((behind, heading), more))
+        least = longer
+        for (last, _), turns in least.items():
+            found.setdefault(last, set()).add((turns, length))
+    return {last: falling(pairs) for last, pairs in found.items()}
+
+
+def costs_by_queue(grid, place, price):
+    """By last place the least cost, where a step costs 1 and a turn the price."""
+    free, costs, met, queue = free_places(grid), {}, set(), [(0, place, "")]
+    while queue:
+        cost, last, ahead = heappop(queue)
+        if (last, ahead) in met:
+            continue
+        met.add((last, ahead))
+        costs.setdefault(last, cost)
+        for heading in STEPS:
+            if beside(last, heading) in free:
+                more = cost + 1 + price * (ahead not in ("", heading))
+                heappush(queue, (more, beside(last, heading), heading))
+    return costs
 
 
 def counted_back(grid, one, other, steps, headings):

@@ -5,10 +5,10 @@ from itertools import product
 from math import comb
 
 from fewturns.counts.ways import count_stairs, count_ways
-from fewturns.errors import NoPlace, TurnError
 from tests.grounds import (
-    HALL, OPEN, PARTS, RING, ROOM, SMALL, all_grids, all_ways, counted_back, free_places, made, not_free_of, turns_in,
+    HALL, OPEN, PARTS, RING, ROOM, SMALL, all_grids, all_ways, counted_back, free_places, made, turns_in,
 )
+from tests.refusals import PlacesRefused
 
 GRIDS = (HALL, PARTS, RING, ROOM) + tuple(made(3, 4, seed, 30) for seed in range(5))
 SMALL_GRIDS = (SMALL,) + tuple(made(8, 8, seed, walls) for seed, walls in enumerate((5, 15, 30, 45)))
@@ -221,30 +221,10 @@ def walked(grid, place, headings):
     return row, column
 
 
-class Refused(unittest.TestCase):
+class Refused(PlacesRefused, unittest.TestCase):
     ASKS = (count_stairs,) + tuple(
         lambda grid, one, other, steps=steps: count_ways(grid, one, other, steps) for steps in (0, 1, 12)
     )
-
-    def refused(self, ask, grid, one, other, place):
-        with self.assertRaises(NoPlace) as caught:
-            ask(grid, one, other)
-        self.assertEqual(caught.exception.place, place)
-        self.assertIsInstance(caught.exception, TurnError)
-
-    def test_places_that_are_not_free(self):
-        for ask in self.ASKS:
-            for grid in (HALL, ROOM, ("#",), (".",)):
-                for wrong in not_free_of(grid):
-                    for good in sorted(free_places(grid))[:1]:
-                        self.refused(ask, grid, wrong, good, wrong)
-                        self.refused(ask, grid, good, wrong, wrong)
-                    self.refused(ask, grid, wrong, wrong, wrong)
-
-    def test_one_goes_ahead_of_other(self):
-        for ask in self.ASKS:
-            for one, other in product(not_free_of(ROOM), repeat=2):
-                self.refused(ask, ROOM, one, other, one)
 
 
 class TheWhole(unittest.TestCase):

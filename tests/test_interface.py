@@ -25,10 +25,33 @@ FUNCTIONS = {
         "count_ways": ["grid", "one", "other", "steps"],
         "count_stairs": ["grid", "one", "other"],
     },
+    "fewturns/least/prices.py": {
+        "lengths_by_turns": ["grid", "one", "other"],
+        "least_cost": ["grid", "one", "other", "price"],
+    },
+    "fewturns/least/walls.py": {
+        "best_opening": ["grid", "one", "other"],
+        "places_that_matter": ["grid", "one", "other"],
+    },
 }
 
 CLASSES = {
     "fewturns/errors.py": ["TurnError", "NoWay", "NoAsk", "NoGrid", "NoRuns", "NoPlace"],
+    "fewturns/kept.py": ["KeptGrid"],
+    "fewturns/whole.py": ["Desk"],
+}
+
+# By its class each method with its arguments, the object itself aside.
+METHODS = {
+    ("fewturns/kept.py", "KeptGrid"): {
+        "__init__": ["rows", "columns"],
+        "put_up": ["place"],
+        "take_down": ["place"],
+        "grid_now": [],
+        "least_now": ["one", "other"],
+        "reach_now": ["place"],
+    },
+    ("fewturns/whole.py", "Desk"): {"__init__": [], "ask": ["line"]},
 }
 
 
@@ -58,6 +81,13 @@ class Names(unittest.TestCase):
             module = module_of(path)
             for name in classes:
                 self.assertEqual(getattr(module, name).__module__, module.__name__)
+
+
+    def test_methods_are_defined_in_their_classes_themselves(self):
+        for (path, name), methods in METHODS.items():
+            body = vars(getattr(module_of(path), name))
+            for method, arguments in methods.items():
+                self.assertEqual(list(inspect.signature(body[method]).parameters)[1:], arguments, (name, method))
 
 
 class Form(unittest.TestCase):

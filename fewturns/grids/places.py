@@ -26,9 +26,27 @@ def ask_free(grid, place):
         raise NoPlace(place)
 
 
+def places_with(grid, sign):
+    """The places of the grid with the sign, in their order as pairs."""
+    return [(row, column) for row, line in enumerate(grid) for column, there in enumerate(line) if there == sign]
+
+
 def free_places(grid):
     """The free places of the grid, in their order as pairs."""
-    return [(row, column) for row, line in enumerate(grid) for column, sign in enumerate(line) if sign == FREE]
+    return places_with(grid, FREE)
+
+
+def walls_of(grid):
+    """The walls of the grid, in their order as pairs."""
+    return places_with(grid, WALL)
+
+
+def with_sign(grid, place, sign):
+    """The grid with the sign at the place, which it has."""
+    row, column = place
+    line = grid[row]
+    changed = line[:column] + sign + line[column + 1:]
+    return grid[:row] + (changed,) + grid[row + 1:]
 
 
 def place_beside(place, heading):
